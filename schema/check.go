@@ -60,7 +60,7 @@ func checkEnum(b Block) {
 	names := seen[string]{}
 	for _, v := range b.Values {
 		checkName(v.Name, names)
-		refuse(v.Number.value() > maxEnumNumber, v.Number)
+		refuse(v.Number.Value() > maxEnumNumber, v.Number)
 	}
 }
 
@@ -104,7 +104,7 @@ func (c fieldCheck) typeWord(w Word) {
 }
 
 func (c fieldCheck) number(w Word) {
-	n := w.value()
+	n := w.Value()
 	refuse(n < 1 || n > api.MaxNumber || c.numbers.has(n), w)
 	c.numbers.add(n)
 }

@@ -34,7 +34,7 @@ func TestSplit(t *testing.T) {
 
 func TestValue(t *testing.T) {
 	for text, want := range map[string]uint64{"0": 0, "7": 7, "2147483648": 2147483648, "18446744073709551615": 1<<64 - 1, "18446744073709551616": 1<<64 - 1, "100000000000000000000000": 1<<64 - 1} {
-		if got := (Word{Kind: Number, Text: text}).value(); got != want {
+		if got := (Word{Kind: Number, Text: text}).Value(); got != want {
 			t.Errorf("value of %s: %d, want %d", text, got, want)
 		}
 	}

@@ -88,8 +88,8 @@ func isLetter(c byte) bool {
 
 func isDigit(c byte) bool { return '0' <= c && c <= '9' }
 
-// value is the number that a Number's digits tell.
-func (w Word) value() uint64 {
+// Value is the number that a Number's digits tell.
+func (w Word) Value() uint64 {
 	// The error is of no use: with too many digits the answer is the greatest
 	// number there is, which is above every limit.
 	n, _ := strconv.ParseUint(w.Text, 10, 64)
