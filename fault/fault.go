@@ -1,4 +1,4 @@
-// Package fault: how whoever reads gives up, deep inside.
+// Package fault: how whoever reads, or looks at what is to be written, gives up, deep inside.
 package fault
 
 import "twinwire/api"

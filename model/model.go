@@ -75,6 +75,14 @@ func (f *Field) Fits(kind wire.Kind) bool {
 // Packs tells whether a record may hold several of the field's values.
 func (f *Field) Packs() bool { return f.Form == schema.Repeated && f.Type.IsNumber() }
 
+// Tag is the one that the field's records are written with.
+func (f *Field) Tag() wire.Tag {
+	if f.Packs() {
+		return wire.Tag{Number: f.Number, Kind: wire.Long}
+	}
+	return wire.Tag{Number: f.Number, Kind: f.Type.Wire()}
+}
+
 // Levels is how many messages in one another a value of the field has at least: an entry has the message that its field 2 is, be there a record of it or not.
 func (f *Field) Levels() int {
 	switch {

@@ -63,6 +63,15 @@ func TestFits(t *testing.T) {
 	}
 }
 
+func TestTag(t *testing.T) {
+	messages := Build(schema.Read(text))
+	for number, kind := range map[int]wire.Kind{1: wire.Long, 2: wire.Long, 3: wire.Varied, 4: wire.Long, 5: wire.Varied, 9: wire.Long} {
+		if got := messages[0].Field(number).Tag(); got != (wire.Tag{Number: number, Kind: kind}) {
+			t.Errorf("field %d is written with %v", number, got)
+		}
+	}
+}
+
 func TestBases(t *testing.T) {
 	for base, word := range baseWords {
 		f := Build(schema.Read("message A { " + word + " a=1; }"))[0].Field(1)

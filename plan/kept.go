@@ -4,6 +4,7 @@ import (
 	"sync"
 
 	"twinwire/model"
+	"twinwire/schema"
 )
 
 // Kept are a schema's plans, each made when it is first asked for.
@@ -36,7 +37,28 @@ func (k *Kept) of(m *model.Message) *Plan {
 func (k *Kept) steps(m *model.Message) []step {
 	var steps []step
 	for _, f := range m.Fields {
-		steps = append(steps, step{number: f.Number, kind: f.Type.Wire(), packs: f.Packs(), read: k.reading(f)})
+		in := k.within(f)
+		steps = append(steps, step{
+			number:  f.Number,
+			kind:    f.Type.Wire(),
+			packs:   f.Packs(),
+			rivals:  f.Rivals,
+			check:   makeChecking(f, in),
+			measure: makeMeasuring(f, in),
+			write:   makeWriting(f, in),
+			read:    makeReading(f, in),
+		})
 	}
 	return steps
+}
+
+// within is the plan of the messages that a field's values are; of numbers and texts there is none. Entries have no name that theirs could be kept by: nobody else asks for it.
+func (k *Kept) within(f *model.Field) *Plan {
+	switch {
+	case f.Form == schema.Map:
+		return &Plan{steps: k.steps(f.Type.Message)}
+	case f.Type.Base == model.Nested:
+		return k.of(f.Type.Message)
+	}
+	return nil
 }

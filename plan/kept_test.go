@@ -29,6 +29,16 @@ func TestKeptPlansAreMadeOnce(t *testing.T) {
 	}
 }
 
+func TestStepsHaveAllFunctions(t *testing.T) {
+	for _, m := range model.Build(schema.Read(text + " message D { oneof o { string a=1; E b=2; } repeated double c=3; bytes d=4; map<int32,string> e=5; } enum E { }")) {
+		for _, s := range NewKept().Of(m).steps {
+			if s.check == nil || s.measure == nil || s.write == nil || s.read == nil {
+				t.Errorf("%s: the step of field %d lacks a function", m.Name, s.number)
+			}
+		}
+	}
+}
+
 func TestKeptBySeveralGoroutines(t *testing.T) {
 	messages := model.Build(schema.Read(text))
 	k := NewKept()

@@ -8,9 +8,9 @@ import (
 	"twinwire/wire"
 )
 
-// reading makes what a field's step reads by.
-func (k *Kept) reading(f *model.Field) reading {
-	read := k.fieldReading(f)
+// makeReading makes what a field's step reads by; in is the plan of the messages that its values are.
+func makeReading(f *model.Field, in *Plan) reading {
+	read := fieldReading(f, in)
 	if len(f.Rivals) == 0 {
 		return read
 	}
@@ -21,37 +21,35 @@ func (k *Kept) reading(f *model.Field) reading {
 	}
 }
 
-func (k *Kept) fieldReading(f *model.Field) reading {
+func fieldReading(f *model.Field, in *Plan) reading {
 	switch {
 	case f.Form == schema.Map:
-		return k.entryReading(f)
+		return entryReading(f, in)
 	case f.Type.Base == model.Nested:
-		return k.messageReading(f)
+		return messageReading(f, in)
 	case f.Packs():
 		return packedReading(f)
 	}
 	return valueReading(f)
 }
 
-// entryReading makes a plan of the entries, which have no name that it could be kept by: nobody else asks for it.
-func (k *Kept) entryReading(f *model.Field) reading {
-	entries := &Plan{steps: k.steps(f.Type.Message)}
+func entryReading(f *model.Field, in *Plan) reading {
 	number, levels, signed := f.Number, f.Levels(), f.Key().IsSigned()
 	return func(_ wire.Kind, r *wire.Reader, into *draft.Message) {
 		entry := &draft.Message{}
-		entries.readInto(r.Message(levels), entry)
+		in.readInto(r.Message(levels), entry)
 		into.PutEntry(number, signed, entry)
 	}
 }
 
-func (k *Kept) messageReading(f *model.Field) reading {
-	nested, number, levels := k.of(f.Type.Message), f.Number, f.Levels()
+func messageReading(f *model.Field, in *Plan) reading {
+	number, levels := f.Number, f.Levels()
 	place := (*draft.Message).Message
 	if f.Form == schema.Repeated {
 		place = (*draft.Message).AddMessage
 	}
 	return func(_ wire.Kind, r *wire.Reader, into *draft.Message) {
-		nested.readInto(r.Message(levels), place(into, number))
+		in.readInto(r.Message(levels), place(into, number))
 	}
 }
 

@@ -50,10 +50,32 @@ func (s *Schema) Decode(way int, name string, b string) (api.Msg, api.Errno, int
 }
 
 // Encode writes a message (P6).
-func (s *Schema) Encode(way int, name string, m api.Msg) (string, api.Errno) { return "", api.OK }
+func (s *Schema) Encode(way int, name string, m api.Msg) (string, api.Errno) {
+	t, e := s.message(way, name)
+	if e != api.OK {
+		return "", e
+	}
+	return ifSuch(func() string {
+		if way == api.Walk {
+			return walk.Write(t, m)
+		}
+		return s.plans.Of(t).Write(m)
+	})
+}
 
 // Size tells how many bytes a message has (P6).
-func (s *Schema) Size(way int, name string, m api.Msg) (int, api.Errno) { return 0, api.OK }
+func (s *Schema) Size(way int, name string, m api.Msg) (int, api.Errno) {
+	t, e := s.message(way, name)
+	if e != api.OK {
+		return 0, e
+	}
+	return ifSuch(func() int {
+		if way == api.Walk {
+			return walk.Measure(t, m)
+		}
+		return s.plans.Of(t).Measure(m)
+	})
+}
 
 // message is the message that a call names, if the way is one and there is such a message.
 func (s *Schema) message(way int, name string) (*model.Message, api.Errno) {
@@ -71,18 +93,27 @@ func (s *Schema) message(way int, name string) (*model.Message, api.Errno) {
 	return nil, api.ErrType
 }
 
-// caught answers what read answers, or, if it gives up, nothing but what is wrong and where.
-func caught[T any](read func() T) (answer T, e api.Errno, at int) {
+// ifSuch answers what write answers, or, if it gives up, ErrValue: whatever is wrong, also in unknown records, the message is not such.
+func ifSuch[T any](write func() T) (T, api.Errno) {
+	answer, e, _ := caught(write)
+	if e != api.OK {
+		e = api.ErrValue
+	}
+	return answer, e
+}
+
+// caught answers what call answers, or, if it gives up, nothing but what is wrong and where.
+func caught[T any](call func() T) (answer T, e api.Errno, at int) {
 	defer func() {
 		r := recover()
 		if r == nil {
 			return
 		}
 		f, ok := r.(fault.Fault)
-		if !ok { // no reader gave up: to answer here would hide a fault of the program's own
+		if !ok { // nobody gave up: to answer here would hide a fault of the program's own
 			panic(r)
 		}
 		e, at = f.Err, f.At
 	}()
-	return read(), api.OK, 0
+	return call(), api.OK, 0
 }

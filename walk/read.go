@@ -1,4 +1,4 @@
-// Package walk: messages read by going through the schema, each time.
+// Package walk: messages read, measured and written by going through the schema, each time.
 package walk
 
 import (
@@ -21,13 +21,21 @@ func readMessage(m *model.Message, r *wire.Reader, into *draft.Message) {
 	for r.More() {
 		start := r.At()
 		tag := r.Tag()
-		if f := m.Field(tag.Number); f != nil && f.Fits(tag.Kind) {
+		if f := fitting(m, tag); f != nil {
 			readRecord(f, tag.Kind, r, into)
 			continue
 		}
 		r.Skip(tag.Kind)
 		into.Keep(r.Since(start))
 	}
+}
+
+// fitting is the field that a record with that tag fits, or nil.
+func fitting(m *model.Message, t wire.Tag) *model.Field {
+	if f := m.Field(t.Number); f != nil && f.Fits(t.Kind) {
+		return f
+	}
+	return nil
 }
 
 // readRecord reads a record that fits a field.

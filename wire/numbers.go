@@ -12,6 +12,9 @@ func FromZigzag64(v uint64) uint64 { return v>>1 ^ -(v & 1) }
 // FromZigzag32 is FromZigzag64 of the lowest 32 bits.
 func FromZigzag32(v uint64) uint64 { return FromZigzag64(Low32(v)) }
 
+// ToZigzag is the varint of a number of sint32 or sint64: FromZigzag64 the other way round.
+func ToZigzag(v uint64) uint64 { return v<<1 ^ -(v >> 63) }
+
 // Truth is 1, if there is a bit in v.
 func Truth(v uint64) uint64 {
 	if v != 0 {

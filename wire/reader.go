@@ -1,4 +1,4 @@
-// Package wire: what stands in bytes: varints, tags, four and eight bytes, lengths and what is within them.
+// Package wire: what stands in bytes: varints, tags, four and eight bytes, lengths and what is within them; read, measured and written.
 package wire
 
 import (
@@ -24,6 +24,12 @@ type Tag struct {
 	Number int
 	Kind   Kind
 }
+
+// How many bytes follow a tag of kind Four, Eight.
+const (
+	FourSize  = 4
+	EightSize = 8
+)
 
 const (
 	moreBit   = 0x80 // of a varint's byte: another one follows
@@ -85,10 +91,10 @@ func (r *Reader) Tag() Tag {
 }
 
 // Four reads four bytes, the lowest first.
-func (r *Reader) Four() uint64 { return lowestFirst(r.take(4)) }
+func (r *Reader) Four() uint64 { return lowestFirst(r.take(FourSize)) }
 
 // Eight reads eight bytes, the lowest first.
-func (r *Reader) Eight() uint64 { return lowestFirst(r.take(8)) }
+func (r *Reader) Eight() uint64 { return lowestFirst(r.take(EightSize)) }
 
 // Skip goes behind what follows a tag of that kind.
 func (r *Reader) Skip(kind Kind) {
@@ -96,9 +102,9 @@ func (r *Reader) Skip(kind Kind) {
 	case Varied:
 		r.Varint()
 	case Eight:
-		r.take(8)
+		r.take(EightSize)
 	case Four:
-		r.take(4)
+		r.take(FourSize)
 	case Long:
 		r.Within()
 	}
